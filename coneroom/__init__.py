@@ -1,0 +1,1 @@
+"""Coneroom: all whole solutions from one room of mirrors."""

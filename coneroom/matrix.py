@@ -1,0 +1,64 @@
+"""Rows and tables of integers: images, products, determinants, inverses."""
+
+from coneroom.errors import BadMatrix
+
+
+def dot(first, second):
+    """Return the sum of the products of the items of two rows at the same place."""
+    return first[0] * second[0] + first[1] * second[1] + first[2] * second[2]
+
+
+def cross(first, second):
+    """Return the row whose dot with any row is the determinant of the two and it."""
+    return (
+        first[1] * second[2] - first[2] * second[1],
+        first[2] * second[0] - first[0] * second[2],
+        first[0] * second[1] - first[1] * second[0],
+    )
+
+
+def transposed(matrix):
+    """Return the table whose rows are the columns of a table."""
+    first, second, third = matrix
+    return (
+        (first[0], second[0], third[0]),
+        (first[1], second[1], third[1]),
+        (first[2], second[2], third[2]),
+    )
+
+
+def image(matrix, row):
+    """Return the row to which a table leads a row."""
+    return (dot(matrix[0], row), dot(matrix[1], row), dot(matrix[2], row))
+
+
+def matrix_product(first, second):
+    """Return the table that does what `second` does, and then what `first` does."""
+    columns = transposed(second)
+    return (image(columns, first[0]), image(columns, first[1]), image(columns, first[2]))
+
+
+def determinant_of(matrix):
+    """Return the determinant of a table."""
+    first, second, third = matrix
+    return dot(cross(first, second), third)
+
+
+def adjugate_of(matrix):
+    """Return the table whose product with a table is its determinant times the identity."""
+    first, second, third = matrix
+    return transposed((cross(second, third), cross(third, first), cross(first, second)))
+
+
+def has_inverse(matrix):
+    """Return whether a table of integers undoes a table: whether its determinant is 1 or -1."""
+    return abs(determinant_of(matrix)) == 1
+
+
+def inverse_of(matrix):
+    """Return the table that undoes a table with the determinant 1 or -1."""
+    if not has_inverse(matrix):
+        raise BadMatrix("the determinant is neither 1 nor -1")
+    # To multiply by such a determinant is the same as to divide by it.
+    sign = determinant_of(matrix)
+    return matrix_product(adjugate_of(matrix), ((sign, 0, 0), (0, sign, 0), (0, 0, sign)))
