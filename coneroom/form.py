@@ -2,6 +2,7 @@
 
 from math import gcd
 
+from coneroom.checks import is_within
 from coneroom.errors import BadForm, BadMatrix
 from coneroom.matrix import adjugate_of, determinant_of, dot, has_inverse, image, matrix_product, transposed
 
@@ -11,10 +12,7 @@ LEAST_DETERMINANT = -500
 
 def is_item(value):
     """Return whether a value may be an item of the table of a form."""
-    # Python takes True and False for integers, the document does not.
-    if isinstance(value, bool) or not isinstance(value, int):
-        return False
-    return -GREATEST_ITEM <= value <= GREATEST_ITEM
+    return is_within(value, -GREATEST_ITEM, GREATEST_ITEM)
 
 
 def is_below_zero(table):

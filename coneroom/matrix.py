@@ -2,6 +2,18 @@
 
 from coneroom.errors import BadMatrix
 
+UNIT_ROWS = ((1, 0, 0), (0, 1, 0), (0, 0, 1))
+
+
+def scaled(row, times):
+    """Return a row so many times."""
+    return (times * row[0], times * row[1], times * row[2])
+
+
+def shifted(row, step, times):
+    """Return a row with another one added so many times."""
+    return (row[0] + times * step[0], row[1] + times * step[1], row[2] + times * step[2])
+
 
 def dot(first, second):
     """Return the sum of the products of the items of two rows at the same place."""

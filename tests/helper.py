@@ -1,6 +1,8 @@
 """Rows and tables that several tests use, and plain ways to make more of them."""
 
+import fractions
 import itertools
+import math
 
 IDENTITY = ((1, 0, 0), (0, 1, 0), (0, 0, 1))
 MINUS_IDENTITY = ((-1, 0, 0), (0, -1, 0), (0, 0, -1))
@@ -75,3 +77,139 @@ def is_plain_row(value):
 def is_plain_table(value):
     """Return whether a value is a tuple of three rows."""
     return type(value) is tuple and len(value) == 3 and all(is_plain_row(row) for row in value)
+
+
+# Tables with bases: some on no mirror, others on one, two, three, four or six of them; one is not bare.
+SMALL = [
+    (PLAIN, (0, 0, 1)), (PLAIN, (0, 1, 3)), (PLAIN, (1, 2, 4)), (PLAIN, (1, 1, 2)), (PLAIN, (2, -4, -6)),
+    (FLAT, (0, 0, 1)), (FLAT, (1, 1, 1)), (FLAT, (1, 0, -1)), (FLAT, (0, 0, 3)),
+    (ROOTLESS, (0, 0, 1)), (ROOTLESS, (1, 1, -1)),
+    (((0, 1, 0), (1, 0, 0), (0, 0, 1)), (1, -1, 0)), (((0, 1, 0), (1, 0, 0), (0, 0, 1)), (3, -1, 1)),
+    (((0, 0, -1), (0, 2, 0), (-1, 0, 0)), (1, 0, 1)), (((-2, 1, 0), (1, 3, 0), (0, 0, 1)), (1, 0, 0)),
+    (((2, 1, 0), (1, 2, 1), (0, 1, -3)), (0, 0, 1)), (((2, 1, 0), (1, 2, 1), (0, 1, -3)), (-1, 1, -2)),
+    (((2, 1, 0), (1, 2, 0), (0, 0, -3)), (0, 0, 1)), (((1, 0, 0), (0, 5, 0), (0, 0, -2)), (0, 0, 1)),
+    (((2, 0, 0), (0, 2, 0), (0, 0, -2)), (0, 0, 1)), (((-1, 0, 0), (0, 2, 1), (0, 1, 4)), (1, 0, 0)),
+]
+
+# Small tables with a base, a determinant near -500, and a table that leads to a form with items near 1000.
+HARD = [
+    (((1, 0, 0), (0, 1, 0), (0, 0, -499)), (0, 0, 1), ((3, -6, 2), (-15, 31, -11), (1, -2, 1))),
+    (((1, 0, 0), (0, 480, 0), (0, 0, -1)), (0, 0, 1), ((-7, 4, 6), (-2, 1, 2), (36, -20, -31))),
+    (((20, 0, 0), (0, 24, 0), (0, 0, -1)), (0, 0, 1), ((7, 3, 3), (1, 4, 0), (2, 0, 1))),
+    (((5, 0, 0), (0, 10, 0), (0, 0, -10)), (0, 0, 1), ((0, -2, -5), (0, 1, 3), (-1, 0, -11))),
+    (((1, 0, 0), (0, 6, 0), (0, 0, -80)), (0, 0, 1), ((1, 0, 0), (-4, 7, -2), (-1, 4, -1))),
+    (((-1, 0, 0), (0, 15, 0), (0, 0, 33)), (1, 0, 0), ((-1, 1, -2), (-4, 5, -8), (1, -1, 1))),
+    (((0, 7, 0), (7, 0, 0), (0, 0, 10)), (1, -1, -1), ((1, 3, -6), (-2, -5, 12), (0, -1, 1))),
+    (((2, 1, 0), (1, 3, 1), (0, 1, -97)), (0, 0, 1), ((3, -2, -1), (17, -11, -8), (0, 0, 1))),
+    (((1, 0, 0), (0, 1, 0), (0, 0, -500)), (0, 0, 1), ((-8, -3, -12), (27, 10, 33), (0, 0, 1))),
+    (((3, 0, 0), (0, 6, 0), (0, 0, -27)), (0, 0, 1), ((16, 0, -21), (-3, 1, 4), (-3, 0, 4))),
+]
+
+
+def divisors(number):
+    return [n for n in range(1, number + 1) if number % n == 0]
+
+
+def last_by_search(table):
+    """Return the least d from 1 on for which d times the inverse of a table is whole."""
+    determinant = determinant_by_sum(table)
+    minors = []
+    for i, j in itertools.product(range(3), repeat=2):
+        minor = [[table[a][b] for b in range(3) if b != i] for a in range(3) if a != j]
+        minors.append(minor[0][0] * minor[1][1] - minor[0][1] * minor[1][0])
+    return next(d for d in itertools.count(1) if all(d * minor % determinant == 0 for minor in minors))
+
+
+def is_bare_by_search(row):
+    return math.gcd(*row) == 1
+
+
+def is_root_by_definition(table, row):
+    """Return whether a row is a root, by the words of the document."""
+    norm = product_by_sum(table, row, row)
+    if norm <= 0 or not is_bare_by_search(row):
+        return False
+    return all(2 * product_by_sum(table, row, unit) % norm == 0 for unit in UNIT_ROWS)
+
+
+def rows_in_reach(table, p, most):
+    """Return the ascending list of all rows r with -Q(p) * Q(r) + 2 * (r, p) * (r, p) up to a number.
+
+    For a base p this is a norm above 0: so it limits all items.
+    """
+    size = -product_by_sum(table, p, p)
+    line = [product_by_sum(table, unit, p) for unit in UNIT_ROWS]
+    wide = [[size * table[i][j] + 2 * line[i] * line[j] for j in range(3)] for i in range(3)]
+    determinant = determinant_by_sum(wide)
+    assert size > 0 and determinant > 0
+    ranges = []
+    for i in range(3):
+        j, k = [n for n in range(3) if n != i]
+        minor = wide[j][j] * wide[k][k] - wide[j][k] * wide[k][j]
+        limit = math.isqrt(max(most, 0) * minor // determinant)
+        ranges.append(range(-limit, limit + 1))
+    (a, b, c), (_, d, e), (_, _, f) = wide
+    return [
+        (x, y, z) for x, y, z in itertools.product(*ranges)
+        if a * x * x + d * y * y + f * z * z + 2 * (b * x * y + c * x * z + e * y * z) <= most
+    ]
+
+
+def rows_at_by_search(table, p, a, n):
+    """Return what rows_at is to return, by a look at all rows that may come into question."""
+    most = -product_by_sum(table, p, p) * n + 2 * a * a
+    return [
+        row for row in rows_in_reach(table, p, most)
+        if product_by_sum(table, row, p) == a and product_by_sum(table, row, row) == n
+    ]
+
+
+def roots_by_search(table, p, depth):
+    """Return the ascending list of the pairs (depth, root) of all roots up to a depth."""
+    most = 2 * last_by_search(table) * (2 * depth - product_by_sum(table, p, p))
+    pairs = []
+    for row in rows_in_reach(table, p, most):
+        if is_root_by_definition(table, row):
+            a = product_by_sum(table, row, p)
+            pairs.append((fractions.Fraction(a * a, product_by_sum(table, row, row)), row))
+    return sorted(pair for pair in pairs if pair[0] <= depth)
+
+
+def is_outward_by_definition(table, p, r):
+    numbers = [product_by_sum(table, r, other) for other in (p,) + UNIT_ROWS]
+    return next(number for number in numbers if number != 0) < 0
+
+
+def walls_among(table, p, pairs):
+    """Return the walls, by the words of 3.4, among the pairs (depth, root) of all roots up to some depth."""
+    pairs = sorted(pair for pair in pairs if is_outward_by_definition(table, p, pair[1]))
+    flat = [r for near, r in pairs if near == 0]
+    found = []
+    for r in flat:
+        turns = [determinant_by_sum((p, r, s)) for s in flat if s != r]
+        if all(turn > 0 for turn in turns) or all(turn < 0 for turn in turns):
+            found.append((0, r))
+    for near, r in pairs:
+        if near > 0 and all(product_by_sum(table, r, w) <= 0 for ahead, w in found if ahead < near):
+            found.append((near, r))
+    return [r for _, r in found]
+
+
+def walls_by_search(table, p, depth):
+    """Return what walls is to return, by a look at all roots that there are."""
+    return walls_among(table, p, roots_by_search(table, p, depth))
+
+
+def negative(row):
+    return tuple(-item for item in row)
+
+
+def forward(table, p, row):
+    """Return the row or its negative, whichever is forward."""
+    return row if product_by_sum(table, p, row) < 0 else negative(row)
+
+
+def rows_inside(table, p, size):
+    """Return all forward rows inside with items from -size to size."""
+    rows = itertools.product(range(-size, size + 1), repeat=3)
+    return [forward(table, p, row) for row in rows if product_by_sum(table, row, row) < 0]

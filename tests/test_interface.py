@@ -11,6 +11,17 @@ FUNCTIONS = {
         "inverse_of": ["matrix"],
         "determinant_of": ["matrix"],
     },
+    "coneroom.rowsat": {"base_of": ["form"], "rows_at": ["form", "p", "a", "n"]},
+    "coneroom.formtext": {"text_of": ["form"], "form_of": ["text"]},
+    "coneroom.roots": {
+        "kinds": ["form"],
+        "is_root": ["form", "value"],
+        "outward": ["form", "p", "r"],
+        "reflection": ["form", "r"],
+        "reflected": ["form", "r", "v"],
+        "roots_at": ["form", "p", "a"],
+        "meet": ["form", "r", "s"],
+    },
 }
 
 METHODS = {
@@ -20,6 +31,12 @@ METHODS = {
         "norm": ["self", "v"],
         "is_keeper": ["self", "matrix"],
         "moved": ["self", "matrix"],
+    },
+    ("coneroom.room", "Room"): {
+        "__init__": ["self", "form", "p"],
+        "walls": ["self", "bound"],
+        "reach": ["self", "v"],
+        "holds": ["self", "v"],
     },
 }
 
@@ -47,6 +64,17 @@ class InterfaceTest(unittest.TestCase):
                 with self.subTest(owner=name, method=method):
                     self.assertIn(method, vars(owner))
                     self.assertEqual(names_of_arguments(vars(owner)[method]), arguments)
+
+    def test_arguments_may_be_passed_by_their_names(self):
+        form = importlib.import_module("coneroom.formtext").form_of(text="form 1 0 0 1 0 -3\n")
+        rowsat = importlib.import_module("coneroom.rowsat")
+        self.assertEqual(rowsat.rows_at(form=form, p=(0, 0, 1), a=-3, n=-3), [(0, 0, 1)])
+        roots = importlib.import_module("coneroom.roots")
+        self.assertIs(roots.is_root(form=form, value=(1, 0, 0)), True)
+        self.assertEqual(roots.reflected(form=form, r=(1, 0, 0), v=(1, 2, 3)), (-1, 2, 3))
+        room = importlib.import_module("coneroom.room").Room(form=form, p=(0, 0, 1))
+        self.assertEqual(room.walls(bound=2), [(-1, 1, 0), (0, -1, 0), (3, 0, 1)])
+        self.assertIs(room.holds(v=(1, 0, 1)), True)
 
 
 if __name__ == "__main__":

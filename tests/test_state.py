@@ -6,9 +6,13 @@ import pathlib
 import unittest
 
 import helper
-from coneroom.errors import BadForm, BadMatrix
+from coneroom.errors import BadBase, BadForm, BadMatrix, BadNumber, BadRoot, BadRow, TooFar
 from coneroom.form import Form
+from coneroom.formtext import form_of, text_of
 from coneroom.matrix import determinant_of, image, inverse_of, matrix_product
+from coneroom.room import Room
+from coneroom.roots import is_root, kinds, meet, outward, reflected, reflection, roots_at
+from coneroom.rowsat import base_of, rows_at
 
 PACKAGE = pathlib.Path(__file__).resolve().parent.parent / "coneroom"
 PURE_MODULES = {"__future__", "collections", "heapq", "itertools", "math"}
@@ -30,6 +34,27 @@ def calls():
         (form.product, [(1, 2, 3), (4, 5, 6)]),
         (form.norm, [(1, 2, 3)]),
         (form.is_keeper, [TURNED]),
+        (text_of, [form]),
+        (base_of, [form]),
+        (is_root, [form, (3, 0, 1)]),
+        (is_root, [form, [3, 0, 1]]),
+        (reflection, [form, (3, 0, 1)]),
+        (reflected, [form, (3, 0, 1), (4, 5, 6)]),
+        (outward, [form, (0, 0, 1), (3, 0, 1)]),
+        (meet, [form, (-1, 1, 0), (3, 0, 1)]),
+        (Room(form, (0, 0, 1)).reach, [(1, 1, 2)]),
+        (Room(form, (0, 0, 1)).holds, [(1, 1, 2)]),
+    ]
+
+
+def list_calls():
+    """Return the functions and methods that return a list, with arguments that they take."""
+    form = Form(helper.FLAT)
+    return [
+        (kinds, [form]),
+        (rows_at, [form, (0, 0, 1), -3, 6]),
+        (roots_at, [form, (0, 0, 1), 3]),
+        (Room(form, (0, 0, 1)).walls, [2]),
     ]
 
 
@@ -40,21 +65,26 @@ def has_a_list(value):
     return not isinstance(value, (int, str))
 
 
-def state_of(form):
-    return copy.deepcopy(vars(form))
+def state_of(thing):
+    """Return all that an object, or a list of such, holds, in a form that can be compared."""
+    if isinstance(thing, (list, tuple)):
+        return [state_of(item) for item in thing]
+    if isinstance(thing, (Form, Room)):
+        return {name: state_of(value) for name, value in vars(thing).items()}
+    return copy.deepcopy(thing)
 
 
 class StateTest(unittest.TestCase):
 
     def test_arguments_are_not_changed(self):
-        for action, arguments in calls():
+        for action, arguments in calls() + list_calls():
             with self.subTest(action=action.__name__):
-                before = copy.deepcopy(arguments)
+                before = state_of(arguments)
                 action(*arguments)
-                self.assertEqual(arguments, before)
+                self.assertEqual(state_of(arguments), before)
 
     def test_the_same_call_has_the_same_answer(self):
-        for action, arguments in calls():
+        for action, arguments in calls() + list_calls():
             with self.subTest(action=action.__name__):
                 self.assertEqual(action(*arguments), action(*copy.deepcopy(arguments)))
 
@@ -62,6 +92,42 @@ class StateTest(unittest.TestCase):
         for action, arguments in calls():
             with self.subTest(action=action.__name__):
                 self.assertFalse(has_a_list(action(*arguments)))
+
+    def test_lists_are_new_each_time(self):
+        for action, arguments in list_calls():
+            with self.subTest(action=action.__name__):
+                first, second = action(*arguments), action(*arguments)
+                self.assertGreater(len(first), 2)
+                self.assertFalse(has_a_list(tuple(first)))
+                first.reverse()
+                first.append((9, 9, 9))
+                self.assertEqual(action(*arguments), second)
+
+    def test_methods_do_not_change_their_room(self):
+        form = Form(helper.FLAT)
+        room = Room(form, (0, 0, 1))
+        before = state_of(room)
+        room.walls(500)
+        room.walls(0)
+        room.reach((1, 1, 2))
+        room.holds((10 ** 6, 0, 10 ** 6))
+        for action, argument, error in (
+            (room.walls, 501, BadNumber), (room.reach, (0, 0, 0), BadRow), (room.holds, (2, 0, 1), BadRow),
+        ):
+            with self.assertRaises(error):
+                action(argument)
+        self.assertEqual(state_of(room), before)
+        self.assertEqual(room.walls(1), [(-1, 1, 0), (0, -1, 0)])
+
+    def test_what_was_asked_earlier_does_not_matter(self):
+        form = Form(helper.FLAT)
+        room, other = Room(form, (0, 0, 1)), Room(Form(helper.PLAIN), (0, 0, 1))
+        for bound in (500, 0, 2, 1, 500, 1, 0):
+            told = [(-1, 1, 0), (0, -1, 0), (3, 0, 1)][:3 if bound >= 2 else 2]
+            self.assertEqual(room.walls(bound), told)
+            self.assertEqual(Room(form, (0, 0, 1)).walls(bound), told)
+            told = [(-1, 1, 0), (0, -1, 0), (1, 1, 1)][:3 if bound >= 1 else 2]
+            self.assertEqual(other.walls(bound), told)
 
     def test_methods_do_not_change_their_form(self):
         form = Form(helper.FLAT)
@@ -95,7 +161,16 @@ class StateTest(unittest.TestCase):
                 Form(table)
         with self.assertRaises(BadMatrix):
             inverse_of(DOUBLED)
-        self.assertEqual(state_of(Form(helper.ROOTLESS)), before)
+        form = Form(helper.ROOTLESS)
+        for action, arguments, error in (
+            (reflection, [form, (1, 0, 0)], BadRoot), (rows_at, [form, (1, 0, 0), 0, 0], BadBase),
+            (roots_at, [form, (0, 0, 1), -1], BadNumber), (Room, [form, (1, 0, 0)], BadBase),
+            (Room(form, (0, 0, 1)).holds, [(-16, 9, 8)], TooFar),
+        ):
+            with self.assertRaises(error):
+                action(*arguments)
+        self.assertEqual(state_of(form), before)
+        self.assertEqual(state_of(form_of(text_of(form))), before)
 
 
 class OutsideTest(unittest.TestCase):
