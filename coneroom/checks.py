@@ -1,6 +1,6 @@
 """Checks of arguments that several parts of the program share."""
 
-from coneroom.errors import BadBase
+from coneroom.errors import BadBase, BadNumber
 
 
 def is_whole(value):
@@ -23,3 +23,9 @@ def check_base(form, p):
     """Raise BadBase unless a row is inside the cone."""
     if form.norm(p) >= 0:
         raise BadBase("the base row is not inside the cone")
+
+
+def check_within(value, least, greatest):
+    """Raise BadNumber unless a value is an integer from one bound to another one."""
+    if not is_within(value, least, greatest):
+        raise BadNumber(f"the number is not an integer from {least} to {greatest}")

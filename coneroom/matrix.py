@@ -10,6 +10,11 @@ def scaled(row, times):
     return (times * row[0], times * row[1], times * row[2])
 
 
+def divided_by(row, divisor):
+    """Return a row each item of which is divided by a divisor of all of them."""
+    return (row[0] // divisor, row[1] // divisor, row[2] // divisor)
+
+
 def shifted(row, step, times):
     """Return a row with another one added so many times."""
     return (row[0] + times * step[0], row[1] + times * step[1], row[2] + times * step[2])
@@ -74,3 +79,15 @@ def inverse_of(matrix):
     # To multiply by such a determinant is the same as to divide by it.
     sign = determinant_of(matrix)
     return matrix_product(adjugate_of(matrix), ((sign, 0, 0), (0, sign, 0), (0, 0, sign)))
+
+
+def table_leading(rows, others):
+    """Return the table of integers that leads three rows, none a sum of the others, to three others, or None."""
+    # The rows are columns here: so the table is the second one times the inverse of the first one.
+    columns = transposed(rows)
+    divisor = determinant_of(columns)
+    product = matrix_product(transposed(others), adjugate_of(columns))
+    if any([item % divisor != 0 for row in product for item in row]):
+        return None
+    first, second, third = product
+    return (divided_by(first, divisor), divided_by(second, divisor), divided_by(third, divisor))

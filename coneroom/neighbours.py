@@ -1,4 +1,4 @@
-"""Which walls of a room meet, and whether they make a ring."""
+"""Which walls of a room meet, and the ring that they make."""
 
 from coneroom.roots import meeting
 
@@ -8,24 +8,34 @@ def neighbours_of(form, walls, r):
     return [s for s in walls if s != r and meeting(form, r, s) is not None]
 
 
-def length_of_way(near, start):
-    """Return how many walls one passes from a wall round to it again, if each has two neighbours."""
+def way_round(near, start):
+    """Return the list of the walls that one passes from a wall round to it, if each has two neighbours."""
+    way = [start]
     before, here = start, near[start][0]
-    passed = 1
     while here != start:
+        way.append(here)
         first, second = near[here]
         before, here = here, (second if first == before else first)
-        passed += 1
-    return passed
+    return way
 
 
-def makes_ring(form, walls):
-    """Return whether walls make a ring."""
+def ring_of(form, walls):
+    """Return the list of the walls as they stand in the ring that they make, or None if they make none.
+
+    It begins with the first one and that one of its neighbours that comes earlier.
+    """
     if len(walls) < 3:
-        return False
+        return None
     near = {}
     for r in walls:
         near[r] = neighbours_of(form, walls, r)
         if len(near[r]) != 2:
-            return False
-    return length_of_way(near, walls[0]) == len(walls)
+            return None
+    way = way_round(near, walls[0])
+    # A shorter way is one of several rings.
+    return way if len(way) == len(walls) else None
+
+
+def makes_ring(form, walls):
+    """Return whether walls make a ring."""
+    return ring_of(form, walls) is not None

@@ -2,8 +2,8 @@
 
 from math import isqrt
 
-from coneroom.checks import check_base, is_within
-from coneroom.errors import BadNumber, BadRow, TooFar
+from coneroom.checks import check_base, check_within
+from coneroom.errors import BadRow, TooFar
 from coneroom.matrix import determinant_of, dot, image
 from coneroom.neighbours import makes_ring
 from coneroom.roots import is_outward, kinds, layers_of_kind, roots_of_layer
@@ -50,6 +50,28 @@ def walls_among(form, p, pairs):
     return walls
 
 
+def whole_depth(form, p, r):
+    """Return the depth of an outward root, times twice the attribute `last` of the form."""
+    a = form.product(r, p)
+    return a * a * (2 * form.last // form.norm(r))
+
+
+def in_order(form, p, walls):
+    """Return the list of walls in the order of their depths, and as rows among equal ones."""
+    return [r for _, r in sorted([(whole_depth(form, p, r), r) for r in walls])]
+
+
+def walls_to(room, depth):
+    """Return the list of the walls of a room up to a depth, or up to 500 if this is less."""
+    return room.walls(min(depth, GREATEST_BOUND))
+
+
+def check_depth(form, walls, depth):
+    """Raise TooFar if a depth is above 500, unless the walls, those up to 500, make a ring."""
+    if depth > GREATEST_BOUND and not makes_ring(form, walls):
+        raise TooFar("the walls up to the depth 500 do not tell about greater depths")
+
+
 class Room:
     """The room of a base row: the forward rows that no mirror parts from it."""
 
@@ -60,8 +82,7 @@ class Room:
 
     def walls(self, bound):
         """Return the list of all walls of a depth up to a bound, in their order."""
-        if not is_within(bound, 0, GREATEST_BOUND):
-            raise BadNumber("the bound is not an integer from 0 to 500")
+        check_within(bound, 0, GREATEST_BOUND)
         return walls_among(self.form, self.base, outward_roots(self.form, self.base, bound))
 
     def reach(self, v):
@@ -76,9 +97,8 @@ class Room:
     def holds(self, v):
         """Return whether a forward row inside the cone lies in the room."""
         depth = self.reach(v)
-        walls = self.walls(min(depth, GREATEST_BOUND))
+        walls = walls_to(self, depth)
         if any([self.form.product(wall, v) > 0 for wall in walls]):
             return False
-        if depth > GREATEST_BOUND and not makes_ring(self.form, walls):
-            raise TooFar("the row lies beyond the walls up to the depth 500")
+        check_depth(self.form, walls, depth)
         return True

@@ -213,3 +213,122 @@ def rows_inside(table, p, size):
     """Return all forward rows inside with items from -size to size."""
     rows = itertools.product(range(-size, size + 1), repeat=3)
     return [forward(table, p, row) for row in rows if product_by_sum(table, row, row) < 0]
+
+
+# Rooms that close: a table with a base, the least bound, the angles in the ring, the area, and how
+# many keepers keep the room. Some bases lie on no mirror, others on one, two or more; some rooms
+# have corners on the rim, one has six of them.
+CLOSED = [
+    (PLAIN, (0, 0, 1), 1, (4, 0, 2), (1, 4), 1),
+    (PLAIN, (0, 1, 3), 4, (4, 2, 0), (1, 4), 1),
+    (PLAIN, (1, 2, 4), 1, (4, 0, 2), (1, 4), 1),
+    (PLAIN, (1, 1, 2), 1, (2, 4, 0), (1, 4), 1),
+    (PLAIN, (2, -4, -6), 4, (2, 4, 0), (1, 4), 1),
+    (FLAT, (0, 0, 1), 2, (4, 2, 6), (1, 12), 1),
+    (FLAT, (1, 1, 1), 1, (6, 2, 4), (1, 12), 1),
+    (FLAT, (1, 0, -1), 1, (2, 4, 6), (1, 12), 1),
+    (((0, 1, 0), (1, 0, 0), (0, 0, 1)), (3, -1, 1), 2, (0, 2, 4), (1, 4), 1),
+    (((0, 0, -1), (0, 2, 0), (-1, 0, 0)), (1, 0, 1), 1, (2, 0, 3), (1, 6), 1),
+    (((-2, 1, 0), (1, 3, 0), (0, 0, 1)), (1, 0, 0), 28, (2, 2, 0, 2, 2), (1, 1), 1),
+    (((2, 1, 0), (1, 2, 1), (0, 1, -3)), (-1, 1, -2), 36, (3, 4, 2, 2), (5, 12), 1),
+    (((1, 0, 0), (0, 5, 0), (0, 0, -2)), (0, 0, 1), 80, (2, 2, 2, 2, 2, 2), (1, 1), 2),
+    (((20, 0, 0), (0, 24, 0), (0, 0, -1)), (0, 0, 1), 54, (2, 2, 2, 2, 2, 2, 2), (3, 2), 1),
+    (((3, 0, 0), (0, 6, 0), (0, 0, -27)), (0, 0, 1), 338, (2, 0, 2, 0, 2), (3, 2), 1),
+    (((4, -1, 0), (-1, 3, -3), (0, -3, 1)), (0, 1, 1), 169, (0, 2, 0, 2, 4, 0, 0, 2, 0, 2, 4, 0), (15, 2), 2),
+    (((1, 0, 0), (0, 17, 0), (0, 0, -1)), (0, 0, 1), 136, (2, 0, 2, 2, 2, 2, 4), (9, 4), 1),
+]
+
+# Rooms that do not close up to 500: without walls, with few, and with many of them.
+OPEN = [
+    (ROOTLESS, (0, 0, 1)), (ROOTLESS, (1, 1, -1)),
+    (((1, 0, 0), (0, 1, 0), (0, 0, -499)), (0, 0, 1)), (((2, 1, 0), (1, 3, 1), (0, 1, -97)), (0, 0, 1)),
+    (((1, 0, 0), (0, 6, 0), (0, 0, -80)), (0, 0, 1)), (((1, 0, 0), (0, 480, 0), (0, 0, -1)), (0, 0, 1)),
+    (((0, 7, 0), (7, 0, 0), (0, 0, 10)), (1, -1, -1)), (PLAIN, (0, 0, 23)),
+]
+
+
+def outward_roots_by_search(table, p, depth):
+    """Return the ascending list of all outward roots up to a depth."""
+    return sorted(r for _, r in roots_by_search(table, p, depth) if is_outward_by_definition(table, p, r))
+
+
+def reach_by_definition(table, p, row):
+    """Return the reach of a row, by the words of 3.6."""
+    product, norm = product_by_sum(table, p, row), product_by_sum(table, row, row)
+    return math.ceil(fractions.Fraction(product * product - product_by_sum(table, p, p) * norm, -norm))
+
+
+def reflected_by_definition(table, r, v):
+    norm, product = product_by_sum(table, r, r), product_by_sum(table, r, v)
+    times = fractions.Fraction(2 * product, norm)
+    assert times.denominator == 1
+    return tuple(v[i] - times.numerator * r[i] for i in range(3))
+
+
+def folded_by_search(table, roots, row):
+    """Return the row of the room to which reflections in any outward roots lead a row."""
+    while True:
+        ahead = [r for r in roots if product_by_sum(table, r, row) > 0]
+        if not ahead:
+            return row
+        row = reflected_by_definition(table, ahead[-1], row)
+
+
+def rows_of_norm(table, p, norm, height):
+    """Return the ascending list of all forward rows with a norm from 0 downwards up to a height."""
+    # For rows of this norm and height the number of rows_in_reach is at most this.
+    most = -product_by_sum(table, p, p) * norm + 2 * height * height
+    return [
+        row for row in rows_in_reach(table, p, most)
+        if product_by_sum(table, row, row) == norm and 0 < -product_by_sum(table, row, p) <= height
+    ]
+
+
+def rows_of_box(size):
+    """Return the ascending list of all rows with items from -size to size."""
+    return list(itertools.product(range(-size, size + 1), repeat=3))
+
+
+def matrix_by_columns(first, second, third):
+    return tuple((first[i], second[i], third[i]) for i in range(3))
+
+
+def moves_by_search(table, p, w):
+    """Return the ascending list of all keepers that lead one row inside to another one, by the words of 7.2."""
+    images = [
+        rows_at_by_search(table, w, product_by_sum(table, UNIT_ROWS[i], p), table[i][i]) for i in range(3)
+    ]
+    return sorted(
+        matrix_by_columns(*rows) for rows in itertools.product(*images)
+        if all(product_by_sum(table, rows[i], rows[j]) == table[i][j] for i in range(3) for j in range(3))
+    )
+
+
+def image_by_sum(matrix, row):
+    return tuple(sum(matrix[i][j] * row[j] for j in range(3)) for i in range(3))
+
+
+def product_of_tables(*tables):
+    """Return the table that does the last of some tables first, and so on to the first one."""
+    done = IDENTITY
+    for table in reversed(tables):
+        done = matrix_by_columns(*[image_by_sum(table, row) for row in zip(*done)])
+    return done
+
+
+def reflection_by_definition(table, r):
+    return matrix_by_columns(*[reflected_by_definition(table, r, unit) for unit in UNIT_ROWS])
+
+
+def keeps_products(table, matrix):
+    """Return whether a table keeps all products, by those of the unit rows."""
+    columns = list(zip(*matrix))
+    return all(
+        product_by_sum(table, columns[i], columns[j]) == table[i][j] for i in range(3) for j in range(3)
+    )
+
+
+def side_by_definition(table, p, matrix, r):
+    """Return the side of a root for a keeper, by the words of 7.3."""
+    numbers = [product_by_sum(table, r, image_by_sum(matrix, row)) for row in (p,) + UNIT_ROWS]
+    return next(number for number in numbers if number != 0)
