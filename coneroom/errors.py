@@ -10,7 +10,7 @@ class BadForm(ConeroomError):
 
 
 class BadMatrix(ConeroomError):
-    """A table that has to be undone has a determinant other than 1 and -1."""
+    """A table has a determinant other than 1 and -1."""
 
 
 class BadBase(ConeroomError):

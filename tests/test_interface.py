@@ -1,4 +1,4 @@
-"""The names and arguments of the section "The interface", as far as it has landed."""
+"""The names and arguments of the section "The interface", and the kinds of what is returned."""
 
 import importlib
 import inspect
@@ -22,6 +22,42 @@ FUNCTIONS = {
         "roots_at": ["form", "p", "a"],
         "meet": ["form", "r", "s"],
     },
+    "coneroom.ring": {
+        "is_closed": ["room", "bound"],
+        "lies_in": ["closed", "v"],
+        "rim_rows": ["closed"],
+    },
+    "coneroom.fold": {
+        "folded": ["room", "v"],
+        "word_matrix": ["form", "word"],
+        "unfolded": ["form", "row", "word"],
+        "between": ["room", "v", "w"],
+        "parting": ["room", "v"],
+        "kin": ["room", "rows"],
+    },
+    "coneroom.images": {"folded_closed": ["closed", "v"], "images": ["closed", "row", "height"]},
+    "coneroom.solutions": {
+        "most_height": ["closed", "k"],
+        "solutions": ["closed", "k"],
+        "bare_solutions": ["closed", "k"],
+        "all_rows": ["form", "p", "k", "height"],
+        "rim_images": ["closed", "height"],
+        "comes": ["closed", "k"],
+        "lots": ["closed", "k", "height"],
+    },
+    "coneroom.keepers": {
+        "order_of": ["matrix"],
+        "moves": ["form", "p", "w"],
+        "symmetries": ["room", "height"],
+        "keeps": ["room", "matrix"],
+        "parts": ["room", "matrix"],
+        "endless": ["room", "height"],
+    },
+    "coneroom.alike": {"group": ["ring"], "alike": ["first", "second"]},
+    "coneroom.verdict": {
+        "verdict": ["room", "bound", "height"],
+        "answer": ["text", "bound", "height"],
+    },
 }
 
 METHODS = {
@@ -38,6 +74,13 @@ METHODS = {
         "reach": ["self", "v"],
         "holds": ["self", "v"],
     },
+    ("coneroom.ring", "Closed"): {"__init__": ["self", "room", "bound"]},
+}
+
+ATTRIBUTES = {
+    "Form": ["table", "determinant", "last"],
+    "Room": ["form", "base"],
+    "Closed": ["room", "walls", "corners", "angles", "area"],
 }
 
 
@@ -75,6 +118,34 @@ class InterfaceTest(unittest.TestCase):
         room = importlib.import_module("coneroom.room").Room(form=form, p=(0, 0, 1))
         self.assertEqual(room.walls(bound=2), [(-1, 1, 0), (0, -1, 0), (3, 0, 1)])
         self.assertIs(room.holds(v=(1, 0, 1)), True)
+        ring = importlib.import_module("coneroom.ring")
+        self.assertIs(ring.is_closed(room=room, bound=1), False)
+        closed = ring.Closed(room=room, bound=2)
+        self.assertIs(ring.lies_in(closed=closed, v=(1, 0, 1)), True)
+        fold = importlib.import_module("coneroom.fold")
+        self.assertEqual(fold.unfolded(form=form, row=(1, 0, 1), word=((0, -1, 0),)), (1, 0, 1))
+        images = importlib.import_module("coneroom.images")
+        self.assertEqual(images.images(closed=closed, row=(0, 0, 1), height=3), [(0, 0, 1)])
+        solutions = importlib.import_module("coneroom.solutions")
+        self.assertEqual(solutions.all_rows(form=form, p=(0, 0, 1), k=3, height=3), [(0, 0, 1)])
+        keepers = importlib.import_module("coneroom.keepers")
+        self.assertEqual(keepers.order_of(matrix=((0, 1, 0), (1, 0, 0), (0, 0, 1))), 2)
+        alike = importlib.import_module("coneroom.alike")
+        self.assertEqual(alike.alike(first=closed, second=closed), ((1, 0, 0), (0, 1, 0), (0, 0, 1)))
+        self.assertEqual(len(alike.group(ring=closed)), 1)
+        verdict = importlib.import_module("coneroom.verdict")
+        self.assertEqual(verdict.verdict(room=room, bound=2, height=0), ("closed", 3))
+        told = verdict.answer(text="form 1 0 0 1 0 -3\n", bound=2, height=0)
+        self.assertEqual(told, ("closed", 3, (1, 12), 1, 0))
+
+    def test_attributes_are_set_on_each_object(self):
+        form = importlib.import_module("coneroom.formtext").form_of("form 1 0 0 1 0 -3\n")
+        room = importlib.import_module("coneroom.room").Room(form, (0, 0, 1))
+        closed = importlib.import_module("coneroom.ring").Closed(room, 2)
+        for thing in (form, room, closed):
+            for name in ATTRIBUTES[type(thing).__name__]:
+                with self.subTest(owner=type(thing).__name__, name=name):
+                    self.assertIn(name, vars(thing))
 
 
 if __name__ == "__main__":
